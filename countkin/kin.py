@@ -36,10 +36,13 @@ class Family:
             raise NoSize("the family has no such size")
         return self.unchecked_many(size)
 
-    def number_of(self, thing):
-        """The number of a thing among those of its size."""
+    def refuse_other(self, thing):
         if not self.is_one(thing):
             raise NoThing("this is not one of the family")
+
+    def number_of(self, thing):
+        """The number of a thing among those of its size."""
+        self.refuse_other(thing)
         return self.unchecked_number(thing)
 
     def thing_of(self, size, number):
@@ -112,8 +115,7 @@ class SplitFamily(Family):
 
 def by_parts(one, other, thing):
     """The thing of family other to which a thing of family one is led by its parts."""
-    if not one.is_one(thing):
-        raise NoThing("this is not one of the first family")
+    one.refuse_other(thing)
     return led_by_parts(one, other, thing)
 
 
