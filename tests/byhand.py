@@ -318,4 +318,49 @@ FLOORS = SplitHand(
     lambda: (2, []), floor_joined, floor_parted)
 
 
-SPLIT_HANDS = [BRACKETS, STAIRS, TWINS, BOWS, ROOMS, FLOORS]
+# Turns (17)
+
+def turns_is_one(thing):
+    return (all(thing.count(k) == 1 for k in range(len(thing)))
+            and not any(b < c < a for a, b, c in itertools.combinations(thing, 3)))
+
+
+def turns_small():
+    yield from rows(range(-1, 6), 5)
+    for length in range(6, 8):
+        for thing in itertools.permutations(range(length)):
+            yield list(thing)
+
+
+def turns_parted(thing):
+    i = thing.index(0)
+    return (shifted(thing[:i], -1), shifted(thing[i + 1:], -i - 1))
+
+
+UP = list(range(40))
+
+TURNS = SplitHand(
+    "turns", turns_is_one, len, turns_small,
+    [[1], [-1], [0, 0], [0, 2], [1, 1], [2, 0, 1], [1, 2], [3, 0, 2, 1], [0, 3, 1, 2], [3, 1, 0, 2], [1, 3, 0, 2],
+     [3, 2, 0, 1], [0, 1, 1], UP[1:], UP + [39], UP + [41], [39] + UP[:-1], [2, 0, 1] + UP[3:], UP[:-3] + [39, 37, 38],
+     [20] + UP[:20] + UP[21:], [0] * 80, UP + UP, list(range(80, 0, -1)), [39] + UP[1:38][::-1] + [0, 38],
+     [79] + list(range(79))]
+    + far_rows([[0], [0, 1], UP]),
+    lambda: [], lambda left, right: shifted(left, 1) + [0] + shifted(right, len(left) + 1), turns_parted)
+
+
+SPLIT_HANDS = [BRACKETS, STAIRS, TWINS, BOWS, ROOMS, FLOORS, TURNS]
+
+
+# Codes (21)
+
+def codes_is_one(thing):
+    n = len(thing) + 1
+    return all(number in range(n + 1) for number in thing)
+
+
+CODES = Hand(
+    "codes", codes_is_one, lambda thing: len(thing) + 1, lambda: rows(range(-2, 7), 4),
+    [[-1], [3], [4], [0, 4], [4, 0], [-1, 0], [0, -1], [0, 0, 5], [5, 0, 0], [0, 0, -1], [41] * 39, [40] * 38 + [41],
+     [41] + [40] * 38, [-1] + [0] * 38, [0] * 38 + [-1], [82] * 80, [-1] * 80]
+    + far_rows([[0], [0, 1], [40] * 39, [0] * 80]))

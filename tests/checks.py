@@ -7,7 +7,8 @@ import sys
 from byhand import BIG, HUGE
 from countkin.counts import by_rule
 from countkin.errors import NoNumber, NoSize, NoThing
-from countkin.kin import SplitFamily
+from countkin.kin import Family, SplitFamily
+from countkin.ring import RingFamily
 
 FAR_SIZES = [10 ** 59, -(10 ** 59), 10 ** 70 - 1, -(10 ** 70) + 1]
 WRONG_NUMBERS = [-1, -2, HUGE, -HUGE, -BIG, 10 ** 69, 10 ** 70 - 1, -(10 ** 70) + 1]
@@ -336,3 +337,58 @@ class SplitChecks(FamilyChecks):
                 left, right = self.hand.parted(thing)
                 self.check_own(family.joined, left, right)
         self.check_own(family.joined, self.hand.bare(), self.hand.bare())
+
+
+class RingChecks(FamilyChecks):
+    """What holds of each of the three. A test tells code, a thing's code as the document does, and candidates."""
+
+    most = 5
+
+    def many(self, size):
+        return (size + 1) ** (size - 1)
+
+    def number(self, thing):
+        """The number that the document tells, by the powers of the base."""
+        code = self.code(thing)
+        base = len(code) + 2
+        return sum(figure * base ** (len(code) - 1 - k) for k, figure in enumerate(code))
+
+    def things(self, size):
+        found = [value for value in self.candidates(size) if self.hand.is_one(value)]
+        return sorted(found, key=self.number)
+
+    def test_made(self):
+        self.assertIsInstance(self.made(), RingFamily)
+        self.assertIsInstance(self.made(), Family)
+        self.assertEqual(self.made().least, 1)
+
+    def test_codes_of_small_sizes(self):
+        family = self.made()
+        for size in self.all_sizes():
+            for thing in self.things(size):
+                with self.subTest(thing=thing):
+                    code = self.code(thing)
+                    self.assertEqual(family.code_of(thing), code)
+                    self.assertEqual(family.of_code(code), thing)
+
+    def test_codes_of_size_40(self):
+        family = self.made()
+        for number, thing in self.large():
+            with self.subTest(number=number):
+                self.assertEqual(self.number(thing), number)
+                self.assertEqual(family.code_of(thing), self.code(thing))
+                self.assertEqual(family.of_code(self.code(thing)), thing)
+
+    def test_first_and_last_of_every_size(self):
+        family = self.made()
+        for size in range(1, 41):
+            with self.subTest(size=size):
+                self.assertEqual(self.code(family.thing_of(size, 0)), [0] * (size - 1))
+                self.assertEqual(self.code(family.thing_of(size, self.many(size) - 1)), [size] * (size - 1))
+
+    def test_codes_are_the_askers_own(self):
+        family = self.made()
+        for thing in [thing for size in range(1, 5) for thing in self.things(size)]:
+            with self.subTest(thing=thing):
+                self.check_own(family.code_of, thing)
+                self.check_own(family.of_code, self.code(thing))

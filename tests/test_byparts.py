@@ -10,10 +10,11 @@ from countkin.counts import by_rule
 from countkin.errors import NoThing
 from countkin.floors import Floors
 from countkin.kin import by_parts
+from countkin.rows import Turns
 from countkin.signs import Brackets, Stairs
 from countkin.twigs import Twins
 
-MADE = [Brackets, Stairs, Twins, Bows, Rooms, Floors]
+MADE = [Brackets, Stairs, Twins, Bows, Rooms, Floors, Turns]
 
 
 class ByPartsTest(OwnChecks, unittest.TestCase):
@@ -39,7 +40,7 @@ class ByPartsTest(OwnChecks, unittest.TestCase):
 
     def test_written_ones(self):
         row = ["(()())()", [0, 0, 1, 3], (((), ((), ())), ((), ())), [(0, 5), (1, 2), (3, 4), (6, 7)], [[0, 2], [1], [3]],
-               (6, [(0, 3), (1, 3), (3, 5)])]
+               (6, [(0, 3), (1, 3), (3, 5)]), [1, 2, 0, 3]]
         for one, first in zip(MADE, row):
             for other, second in zip(MADE, row):
                 self.assertEqual(by_parts(one(), other(), first), second)
