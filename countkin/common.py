@@ -31,3 +31,8 @@ def any_cross(pairs):
             if a < c < b < d:
                 return True
     return False
+
+
+def pairs_anew(pairs):
+    """The pairs written as families of pairs ask: the lesser number first, and rising."""
+    return sorted([(min(a, b), max(a, b)) for a, b in pairs])

@@ -364,3 +364,67 @@ CODES = Hand(
     [[-1], [3], [4], [0, 4], [4, 0], [-1, 0], [0, -1], [0, 0, 5], [5, 0, 0], [0, 0, -1], [41] * 39, [40] * 38 + [41],
      [41] + [40] * 38, [-1] + [0] * 38, [0] * 38 + [-1], [82] * 80, [-1] * 80]
     + far_rows([[0], [0, 1], [40] * 39, [0] * 80]))
+
+
+# Trees (22, 23)
+
+def trees_is_one(thing):
+    n = len(thing)
+    if n == 0 or not all(number in range(n + 1) for number in thing):
+        return False
+    for knot in range(1, n + 1):
+        seen = []
+        while knot != 0:
+            if knot in seen:
+                return False
+            seen.append(knot)
+            knot = thing[knot - 1]
+    return True
+
+
+def tree_code(thing):
+    elders = {place + 1: number for place, number in enumerate(thing)}
+    written = []
+    while elders:
+        leaf = next(knot for knot in sorted(elders) if knot not in elders.values())
+        written.append(elders.pop(leaf))
+    assert written[-1] == 0
+    return written[:-1]
+
+
+TREES = Hand(
+    "trees", trees_is_one, len, lambda: rows(range(-1, 6), 4),
+    [[], [1], [-1], [2], [1, 0], [0, 2], [2, 1], [3, 0], [0, 3], [2, 3, 1], [0, 3, 2], [2, 3, 2], [0, 0, 4], [-1, 0, 0],
+     [1] + [0] * 39, [0] * 39 + [40], [0] * 39 + [41], list(range(1, 41)), list(range(2, 41)) + [1], [2, 1] + [0] * 38,
+     [0] * 38 + [40, 39], list(range(2, 81)) + [1], [81] * 80, [-1] + [0] * 39]
+    + far_rows([[0], [0, 1], [0] * 40, list(range(80))]))
+
+
+# Cars (24, 25)
+
+def cars_is_one(thing):
+    n = len(thing)
+    return (n > 0 and all(number in range(n) for number in thing)
+            and all(sum(1 for number in thing if number <= k) >= k + 1 for k in range(n)))
+
+
+def cars_code(thing):
+    n = len(thing)
+    return [(b - a) % (n + 1) for a, b in zip(thing, thing[1:])]
+
+
+def cars_parked(thing):
+    """Where each car stands: the first place from its wish on at which nobody stands."""
+    stands = {}
+    for car, wish in enumerate(thing):
+        place = next(place for place in range(wish, len(thing)) if place not in stands)
+        stands[place] = car
+    return [place for car, place in sorted((car, place) for place, car in stands.items())]
+
+
+CARS = Hand(
+    "cars", cars_is_one, len, lambda: rows(range(-1, 6), 5),
+    [[], [1], [-1], [1, 1], [0, 2], [2, 0], [0, -1], [-1, 0], [1, 1, 1], [0, 2, 2], [2, 2, 0], [1, 2, 1], [0, 1, 3],
+     [3, 0, 0], [1] * 40, [0] * 39 + [40], [39, 39] + [0] * 36 + [38, 38], [39] * 2 + [0] * 38, list(range(1, 41)),
+     [40] + list(range(39)), [0] * 39 + [-1], [-1] + [0] * 39, [20] * 21 + list(range(19)), [79] * 80, [-1] * 80]
+    + far_rows([[0], [0, 1], [0] * 40, list(range(80))]))

@@ -157,8 +157,9 @@ class FamilyChecks(OwnChecks):
             found = [value for value in good if self.hand.size(value) == size]
             if size <= 3:
                 self.assertEqual(len(found), self.many(size))
+            things = self.things(size)
             for value in found:
-                self.assertIn(value, self.things(size))
+                self.assertIn(value, things)
 
     def test_is_one_near_things_of_the_family(self):
         family = self.made()
