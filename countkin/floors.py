@@ -28,7 +28,7 @@ class Floors(SplitFamily):
     def parted(self, thing):
         last = thing[0] - 1
         cuts = thing[1]
-        third = third_corner(cuts)
+        third = third_corner(cuts, 0, last)
         left = [(a, b) for a, b in cuts if b <= third and (a, b) != (0, third)]
         right = [(a, b) for a, b in cuts if a >= third and (a, b) != (third, last)]
         return ((third + 1, left), (last - third + 1, pairs_raised_by(right, -third)))
@@ -50,6 +50,6 @@ def may_be_cut(corners, a, b):
     return 0 <= a < b - 1 and b < corners and (a, b) != (0, corners - 1)
 
 
-def third_corner(cuts):
-    """The third corner of the triangle at the side from 0 to the last corner."""
-    return max([b for a, b in cuts if a == 0], default=1)
+def third_corner(cuts, begin, end):
+    """The third corner, between the two, of the triangle under a cut or under the last side."""
+    return max([b for a, b in cuts if a == begin and b < end], default=begin + 1)
