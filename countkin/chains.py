@@ -85,10 +85,6 @@ def way_of(name):
     return found[name]
 
 
-def refuse_no_way(name):
-    way_of(name)
-
-
 def manner_of(name):
     """What stands behind the colon of a way's name; the empty text for a direct way."""
     return name.partition(":")[2]
@@ -96,7 +92,8 @@ def manner_of(name):
 
 def ends(name):
     """The tuple of the words of the families in which a way begins and ends."""
-    refuse_no_way(name)
+    # Asked for its refusal alone.
+    way_of(name)
     words = name.partition(":")[0].split(">")
     return (words[0], words[1])
 

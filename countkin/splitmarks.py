@@ -8,18 +8,22 @@ def brackets_peaks(thing):
     return thing.count("()")
 
 
-def brackets_returns(thing):
-    """How many beginnings, from two signs on, have as many ( as )."""
-    returns = 0
+def depths(text):
+    """For each beginning of brackets, from one sign on, by how much it has more ( than )."""
+    found = []
     depth = 0
-    for sign in thing:
+    for sign in text:
         if sign == "(":
             depth += 1
         else:
             depth -= 1
-        if depth == 0:
-            returns += 1
-    return returns
+        found.append(depth)
+    return found
+
+
+def brackets_returns(thing):
+    """How many beginnings, from two signs on, have as many ( as )."""
+    return depths(thing).count(0)
 
 
 def stairs_peaks(thing):

@@ -1,19 +1,11 @@
 """Height of the families by splitting that have it, each told of a thing that is one of its family."""
 
-from countkin.splitmarks import bows_over
+from countkin.splitmarks import bows_over, depths
 
 
 def brackets_height(thing):
     """The most by which a beginning has more ( than )."""
-    height = 0
-    depth = 0
-    for sign in thing:
-        if sign == "(":
-            depth += 1
-        else:
-            depth -= 1
-        height = max(height, depth)
-    return height
+    return max(depths(thing), default=0)
 
 
 def stairs_height(thing):

@@ -1,7 +1,7 @@
 """Things written as lines and read from them, and lines led along chains."""
 
 from countkin.chains import chain, chain_ends
-from countkin.errors import Apart, NoText
+from countkin.errors import Apart
 from countkin.forms import (
     read_bows, read_brackets, read_floor, read_numbers, read_rooms, read_twins, written_bows, written_brackets,
     written_floor, written_numbers, written_rooms, written_twins,
@@ -33,8 +33,7 @@ def read(line):
     pieces = line.partition(" ")
     word = pieces[0]
     family = family_of(word)
-    if pieces[1] == "":
-        raise NoText("no blank stands behind the word")
+    # Where there is no blank the rest is the empty text, which is of no form.
     thing = form_of(word)[1](pieces[2])
     family.refuse_other(thing)
     return (word, thing)

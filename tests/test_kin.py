@@ -1,9 +1,9 @@
 """Points 8, 9 and 13: what the families by splitting have in common, with small families of the test's own."""
 
 import copy
-import sys
 import unittest
 
+from checks import with_few_frames
 from countkin.counts import by_rule
 from countkin.errors import NoNumber, NoSize, NoThing
 from countkin.kin import Family, SplitFamily, by_parts
@@ -158,15 +158,6 @@ def comb(family, size, to_left):
     return thing
 
 
-def frames():
-    depth = 0
-    frame = sys._getframe()
-    while frame:
-        depth += 1
-        frame = frame.f_back
-    return depth
-
-
 class MadeTest(unittest.TestCase):
     def test_family(self):
         family = Family("some word", 1)
@@ -266,16 +257,11 @@ class NumberTest(unittest.TestCase):
         self.assertRaises(NoThing, Rows().number_of, [3, 3])
 
     def test_few_calls_within_one_another(self):
-        limit = sys.getrecursionlimit()
         last = "+" * 40 + "." * 41
         first = "+." * 40 + "."
-        sys.setrecursionlimit(frames() + 120)
-        try:
-            told = [Plus().thing_of(40, 0), Plus().thing_of(40, LAST)]
-            numbers = [Plus().number_of(first), Plus().number_of(last)]
-            led = [by_parts(Plus(), Plus(), first), by_parts(Plus(), Plus(), last)]
-        finally:
-            sys.setrecursionlimit(limit)
+        told = with_few_frames(lambda: [Plus().thing_of(40, 0), Plus().thing_of(40, LAST)])
+        numbers = with_few_frames(lambda: [Plus().number_of(first), Plus().number_of(last)])
+        led = with_few_frames(lambda: [by_parts(Plus(), Plus(), first), by_parts(Plus(), Plus(), last)])
         self.assertEqual((told, numbers, led), ([first, last], [0, LAST], [first, last]))
 
 
